@@ -1,0 +1,1 @@
+"""Counts over some marks, glued to one table of all marks."""

@@ -1,0 +1,105 @@
+"""The package's form: those rules of ../shared/LANGUAGE.md that can be read off the files by themselves."""
+
+import ast
+import builtins
+import pathlib
+import re
+import unittest
+
+PACKAGE = pathlib.Path(__file__).resolve().parent.parent / "gluedtables"
+TEXTS = [(path.name, path.read_text(encoding="utf-8")) for path in sorted(PACKAGE.iterdir()) if path.suffix == ".py"]
+READ = [(name, text, ast.parse(text)) for name, text in TEXTS]
+NODES = """
+    Module FunctionDef arguments arg ClassDef Return Assign AugAssign For While If Raise Try ExceptHandler ImportFrom
+    alias Expr Pass Break Continue BoolOp BinOp UnaryOp Lambda IfExp Dict Set ListComp comprehension Compare Call keyword
+    JoinedStr FormattedValue Constant Attribute Subscript Slice Name List Tuple Load Store And Or Add Sub Mult Mod Pow
+    FloorDiv LShift RShift BitOr BitXor BitAnd Invert Not UAdd USub Eq NotEq Lt LtE Gt GtE Is IsNot In NotIn
+""".split()
+METHODS = ["__init__", "__eq__", "__repr__", "__str__", "__len__"]
+CALLS = """
+    len range enumerate zip min max sum abs sorted reversed int str bool list tuple dict set frozenset isinstance ord
+    repr any all divmod Exception ValueError TypeError KeyError IndexError LookupError ZeroDivisionError
+    ArithmeticError OverflowError RuntimeError NotImplementedError StopIteration
+""".split()
+WORDS = re.compile(
+    r"\b(type|typing|typing_extensions|enum|Enum|IntEnum|StrEnum|Flag|IntFlag|Generic|Protocol|ABC|ABCMeta"
+    r"|namedtuple|NamedTuple|TypedDict|TYPE_CHECKING|abstractmethod)\b|dataclass|overload|contextmanager"
+)
+
+
+def bound_names(tree):
+    """Every name that a file binds: defs, classes, imports, parameters and locals."""
+    names = []
+    for node in ast.walk(tree):
+        if isinstance(node, (ast.FunctionDef, ast.ClassDef)):
+            names.append(node.name)
+        elif isinstance(node, ast.arg):
+            names.append(node.arg)
+        elif isinstance(node, ast.alias):
+            names.append(node.asname or node.name)
+        elif isinstance(node, ast.Name) and isinstance(node.ctx, ast.Store):
+            names.append(node.id)
+    return names
+
+
+class LanguageTest(unittest.TestCase):
+    def test_files(self):
+        self.assertTrue((PACKAGE / "__init__.py").is_file())
+        for path in PACKAGE.iterdir():
+            if path.name != "__pycache__":
+                self.assertRegex(path.name, r"^[a-z0-9_]+\.py$")
+
+    def test_signs_and_sizes(self):
+        for name, text, tree in READ:
+            with self.subTest(name):
+                self.assertRegex(text, r"\A[ -~\n]*\Z")
+                self.assertLessEqual(len(text.splitlines()), 400)
+                self.assertLessEqual(max(len(line) for line in text.splitlines()), 120)
+                for node in ast.walk(tree):
+                    if isinstance(node, ast.FunctionDef):
+                        self.assertLessEqual(node.end_lineno - node.lineno + 1, 40, node.name)
+
+    def test_words(self):
+        for name, text, tree in READ:
+            with self.subTest(name):
+                self.assertIsNone(WORDS.search(text))
+
+    def test_forms(self):
+        for name, text, tree in READ:
+            with self.subTest(name):
+                for node in ast.walk(tree):
+                    self.assertIn(type(node).__name__, NODES, getattr(node, "lineno", 0))
+                    if isinstance(node, ast.Constant):
+                        self.assertNotIsInstance(node.value, (float, complex, bytes))
+                    if isinstance(node, ast.Assign):
+                        self.assertEqual(len(node.targets), 1)
+                    if isinstance(node, (ast.For, ast.While)):
+                        self.assertEqual(node.orelse, [])
+                    if isinstance(node, (ast.FunctionDef, ast.ClassDef)):
+                        self.assertEqual(node.decorator_list, [])
+
+    def test_imports(self):
+        for name, text, tree in READ:
+            with self.subTest(name):
+                for node in ast.walk(tree):
+                    if isinstance(node, ast.ImportFrom):
+                        self.assertIn(node, tree.body)
+                        self.assertEqual(node.level, 0)
+                        self.assertRegex(node.module, r"^gluedtables\.[a-z0-9_]+$")
+                        self.assertTrue((PACKAGE / (node.module.split(".")[1] + ".py")).is_file())
+
+    def test_names(self):
+        for name, text, tree in READ:
+            with self.subTest(name):
+                names = bound_names(tree)
+                for word in names:
+                    if word not in METHODS:
+                        self.assertRegex(word, r"^[A-Za-z][A-Za-z0-9_]*$")
+                        self.assertNotIn(word, dir(builtins))
+                for node in ast.walk(tree):
+                    if isinstance(node, ast.Name) and node.id not in names:
+                        self.assertIn(node.id, CALLS, node.lineno)
+
+
+if __name__ == "__main__":
+    unittest.main()
