@@ -51,9 +51,14 @@ def rows_of(frame, group):
     return rows
 
 
+def all_marks(frame):
+    """The group of all marks."""
+    return tuple(range(len(frame)))
+
+
 def all_rows(frame):
     """The rows of all marks, sorted."""
-    return rows_of(frame, tuple(range(len(frame))))
+    return rows_of(frame, all_marks(frame))
 
 
 def seen(group, row, part):

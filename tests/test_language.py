@@ -42,6 +42,24 @@ def bound_names(tree):
     return names
 
 
+def top_names(tree):
+    """The names that a file binds at its top, by where they come from."""
+    defined = [node.name for node in tree.body if isinstance(node, (ast.FunctionDef, ast.ClassDef))]
+    for node in tree.body:
+        if isinstance(node, ast.Assign):
+            defined.extend(target.id for target in node.targets)
+    drawn = [each.asname or each.name for node in tree.body if isinstance(node, ast.ImportFrom) for each in node.names]
+    return defined, drawn
+
+
+def drawn_from(tree):
+    """The package's files that a file draws from, each with the names."""
+    return [
+        (node.module.split(".")[1] + ".py", [each.name for each in node.names])
+        for node in tree.body if isinstance(node, ast.ImportFrom) and node.module != "__future__"
+    ]
+
+
 class LanguageTest(unittest.TestCase):
     def test_files(self):
         self.assertTrue((PACKAGE / "__init__.py").is_file())
@@ -87,6 +105,32 @@ class LanguageTest(unittest.TestCase):
                         self.assertEqual(node.level, 0)
                         self.assertRegex(node.module, r"^gluedtables\.[a-z0-9_]+$")
                         self.assertTrue((PACKAGE / (node.module.split(".")[1] + ".py")).is_file())
+
+    def test_names_are_drawn_from_the_file_that_defines_them(self):
+        defined = {name: top_names(tree)[0] for name, text, tree in READ}
+        for name, text, tree in READ:
+            for other, words in drawn_from(tree):
+                self.assertLessEqual(set(words), set(defined[other]), name)
+
+    def test_no_two_files_draw_from_one_another(self):
+        reach = {name: {other for other, words in drawn_from(tree)} for name, text, tree in READ}
+        for step in READ:
+            for name in reach:
+                reach[name] = reach[name].union(*[reach[other] for other in reach[name]])
+        for name in reach:
+            self.assertNotIn(name, reach[name])
+
+    def test_each_name_once(self):
+        for name, text, tree in READ:
+            with self.subTest(name):
+                defined, drawn = top_names(tree)
+                self.assertEqual(len(set(defined + drawn)), len(defined + drawn))
+                functions = [node for node in ast.walk(tree) if isinstance(node, ast.FunctionDef)]
+                classes = [node.name for node in tree.body if isinstance(node, ast.ClassDef)]
+                for node in functions:
+                    # The first name that a def binds is its own.
+                    for word in bound_names(node)[1:]:
+                        self.assertNotIn(word, drawn + classes, node.name)
 
     def test_names(self):
         for name, text, tree in READ:

@@ -8,6 +8,7 @@ import unittest
 from gluedtables.errors import NoFrame, NoTable, TooMany
 from gluedtables.frames import rows_of
 from gluedtables.tables import agree, family_of, groups_of, sums, whole
+from samples import cut, slow_agree, slow_sums
 
 BIG = 10 ** 59
 MOST = 10 ** 9
@@ -214,35 +215,6 @@ class FamilyTest(unittest.TestCase):
 
 def parts_of(group):
     return [part for size in range(len(group) + 1) for part in itertools.combinations(group, size)]
-
-
-def slow_sums(frame, table, part):
-    """The sums, by looking at every pair of rows."""
-    group, counts = table
-    rows = list(itertools.product(*[range(frame[mark]) for mark in group]))
-    told = []
-    for small in itertools.product(*[range(frame[mark]) for mark in part]):
-        asked = set(zip(part, small))
-        told.append(sum(count for row, count in zip(rows, counts) if asked <= set(zip(group, row))))
-    return told
-
-
-def slow_agree(family):
-    """The first two tables and the first row that are unlike, by the words of point 7."""
-    frame, tables = family
-    for i, j in itertools.combinations(range(len(tables)), 2):
-        part = tuple(sorted(set(tables[i][0]) & set(tables[j][0])))
-        rows = list(itertools.product(*[range(frame[mark]) for mark in part]))
-        one, other = slow_sums(frame, tables[i], part), slow_sums(frame, tables[j], part)
-        for row, left, right in zip(rows, one, other):
-            if left != right:
-                return (i, j, row)
-    return None
-
-
-def cut(frame, group, numbers):
-    """The table that numbers on all rows give on a group."""
-    return (group, tuple(slow_sums(frame, (tuple(range(len(frame))), numbers), group)))
 
 
 def some_families():
