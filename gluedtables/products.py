@@ -9,17 +9,28 @@ from gluedtables.tables import agree, groups_of, overlap, sums
 
 def is_glued(family, table):
     """Whether a tuple (numbers, times), whoever wrote it, is a glued table of the family."""
-    if not isinstance(table, tuple) or len(table) != 2:
+    if not isinstance(table, tuple) or len(table) != 2 or not is_numbered(family, table[0], table[1]):
         return False
+    return sums_on_groups(family, table[0]) == times_over(family, table[1])
+
+
+def is_numbered(family, numbers, times):
+    """Whether times is from 1 on, and numbers has a whole number from 0 on for each row of all marks."""
+    return is_whole(times) and times >= 1 and are_counts(numbers, len(all_rows(family[0])))
+
+
+def sums_on_groups(family, numbers):
+    """The sums of numbers on all rows on the group of each table, a list for each."""
     frame = family[0]
-    times = table[1]
-    if not is_whole(times) or times < 1 or not are_counts(table[0], len(all_rows(frame))):
-        return False
-    glued = (all_marks(frame), table[0])
-    for group, counts in family[1]:
-        if sums(frame, glued, group) != [count * times for count in counts]:
-            return False
-    return True
+    return [sums(frame, (all_marks(frame), numbers), table[0]) for table in family[1]]
+
+
+def times_over(family, times):
+    """The counts of each table, times times, a list for each."""
+    lists = []
+    for table in family[1]:
+        lists.append([count * times for count in table[1]])
+    return lists
 
 
 def product(family):

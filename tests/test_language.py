@@ -21,6 +21,7 @@ CALLS = """
     repr any all divmod Exception ValueError TypeError KeyError IndexError LookupError ZeroDivisionError
     ArithmeticError OverflowError RuntimeError NotImplementedError StopIteration
 """.split()
+TAKERS = ["list", "tuple", "dict", "sorted", "sum", "any", "all", "enumerate", "zip"]
 WORDS = re.compile(
     r"\b(type|typing|typing_extensions|enum|Enum|IntEnum|StrEnum|Flag|IntFlag|Generic|Protocol|ABC|ABCMeta"
     r"|namedtuple|NamedTuple|TypedDict|TYPE_CHECKING|abstractmethod)\b|dataclass|overload|contextmanager"
@@ -50,6 +51,13 @@ def top_names(tree):
             defined.extend(target.id for target in node.targets)
     drawn = [each.asname or each.name for node in tree.body if isinstance(node, ast.ImportFrom) for each in node.names]
     return defined, drawn
+
+
+def is_walker(node):
+    """Whether a call gives something that is to be walked on the spot."""
+    if isinstance(node.func, ast.Name):
+        return node.func.id in ("zip", "enumerate", "reversed", "range")
+    return isinstance(node.func, ast.Attribute) and node.func.attr in ("items", "keys", "values")
 
 
 def drawn_from(tree):
@@ -131,6 +139,29 @@ class LanguageTest(unittest.TestCase):
                     # The first name that a def binds is its own.
                     for word in bound_names(node)[1:]:
                         self.assertNotIn(word, drawn + classes, node.name)
+
+    def test_walked_at_once(self):
+        for name, text, tree in READ:
+            parents = {child: node for node in ast.walk(tree) for child in ast.iter_child_nodes(node)}
+            for node in ast.walk(tree):
+                if isinstance(node, ast.Call) and is_walker(node):
+                    above = parents[node]
+                    walked = isinstance(above, (ast.For, ast.comprehension)) and above.iter == node
+                    called = isinstance(above, ast.Call) and isinstance(above.func, ast.Name)
+                    if called and above.func.id in TAKERS:
+                        walked = above.func.id == "zip" or above.args[0] == node
+                    elif called and above.func.id in ("min", "max"):
+                        walked = above.args == [node]
+                    self.assertTrue(walked, (name, node.lineno))
+
+    def test_sets_are_not_kept(self):
+        for name, text, tree in READ:
+            parents = {child: node for node in ast.walk(tree) for child in ast.iter_child_nodes(node)}
+            for node in ast.walk(tree):
+                if isinstance(node, ast.Call) and isinstance(node.func, ast.Name) and node.func.id == "set":
+                    above = parents[node]
+                    called = isinstance(above, ast.Call) and above.func.id in ("sorted", "len")
+                    self.assertTrue(called or isinstance(above, (ast.Compare, ast.BinOp)), (name, node.lineno))
 
     def test_names(self):
         for name, text, tree in READ:

@@ -10,27 +10,16 @@ from fractions import Fraction
 from gluedtables.errors import NoTree, Unlike
 from gluedtables.products import is_glued, product
 from gluedtables.tables import family_of
-from samples import cut, slow_agree, slow_pairs, slow_sums, some_lists, some_trees
+from samples import (
+    cut, families_over, framed, product_rows, slow_agree, slow_glued, slow_pairs, slow_sums, some_lists, some_trees,
+    spoiled,
+)
 
 BIG = 10 ** 59
 MOST = 10 ** 9
 SMALL = family_of((2, 2), [((0,), (1, 2)), ((1,), (2, 1))])
 PATH = family_of((2, 2, 3), [((0, 1), (1, 2, 3, 0)), ((1, 2), (1, 0, 3, 2, 0, 0))])
 ONE = family_of((3,), [((0,), (0, 1, 4))])
-
-
-def product_rows(frame):
-    return list(itertools.product(*[range(number) for number in frame]))
-
-
-def slow_glued(family, numbers, times):
-    """Whether numbers and times are a glued table, by the words of point 11."""
-    frame, tables = family
-    if times < 1 or len(numbers) != len(product_rows(frame)) or min(numbers) < 0:
-        return False
-    return all(
-        cut(frame, group, numbers)[1] == tuple(count * times for count in counts) for group, counts in tables
-    )
 
 
 def on_rows(frame, table, part):
@@ -54,51 +43,6 @@ def slow_product(family):
         told.append(Fraction(top, math.prod(totals[place] for totals in below)) if top else Fraction(0))
     times = math.lcm(*[fraction.denominator for fraction in told])
     return [int(fraction * times) for fraction in told], times
-
-
-def renumbered(groups):
-    """The groups with their marks numbered from 0 without gaps."""
-    marks = sorted({mark for group in groups for mark in group})
-    return [tuple(marks.index(mark) for mark in group) for group in groups]
-
-
-def frame_for(groups, source):
-    """A frame for the groups, with a mark of three kinds where there's room; None where no family has these groups."""
-    frame = [2] * (max(max(group) for group in groups) + 1)
-    for mark in source.sample(range(len(frame)), len(frame)):
-        frame[mark] = source.choice((2, 3))
-        rows = sum(math.prod(frame[other] for other in group) for group in groups)
-        if math.prod(frame) > 64 or rows > 60:
-            frame[mark] = 2
-    rows = sum(math.prod(frame[mark] for mark in group) for group in groups)
-    return tuple(frame) if rows <= 60 else None
-
-
-def families_over(lists, seed):
-    """Families that agree over lists of groups: cut out of tables of all marks, with more and fewer noughts."""
-    source = random.Random(seed)
-    for groups in lists:
-        groups = renumbered(groups)
-        frame = frame_for(groups, source)
-        if frame is not None:
-            few = source.choice((1, 2, 5, 50))
-            numbers = [max(0, source.randrange(-few, 6)) for row in product_rows(frame)]
-            numbers[source.randrange(len(numbers))] += 1
-            yield family_of(frame, [cut(frame, group, numbers) for group in groups])
-
-
-def spoiled(family, source):
-    """The family with things moved from one row of a table to another."""
-    frame, tables = family
-    at = source.randrange(len(tables))
-    group, counts = tables[at]
-    counts = list(counts)
-    place = source.choice([k for k, count in enumerate(counts) if count])
-    other = source.choice([k for k in range(len(counts)) if k != place])
-    moved = source.randint(1, counts[place])
-    counts[place] -= moved
-    counts[other] += moved
-    return family_of(frame, [*tables[:at], (group, tuple(counts)), *tables[at + 1:]])
 
 
 class GluedTest(unittest.TestCase):
@@ -193,17 +137,14 @@ class GluedTest(unittest.TestCase):
 
     def test_tables_over_no_tree(self):
         source = random.Random(23)
-        for groups in some_lists(200, 24):
-            groups = renumbered(groups)
-            frame = frame_for(groups, source)
-            if frame is not None:
-                numbers = [source.randrange(5) for row in product_rows(frame)]
-                numbers[-1] += 1
-                family = family_of(frame, [cut(frame, group, numbers) for group in groups])
-                self.check(family, (numbers, 1), True)
-                self.check(family, ([5 * number for number in numbers], 5), True)
-                mixed = source.sample(numbers, len(numbers))
-                self.check(family, (mixed, 1), slow_glued(family, mixed, 1))
+        for frame, groups in framed(some_lists(200, 24), source):
+            numbers = [source.randrange(5) for row in product_rows(frame)]
+            numbers[-1] += 1
+            family = family_of(frame, [cut(frame, group, numbers) for group in groups])
+            self.check(family, (numbers, 1), True)
+            self.check(family, ([5 * number for number in numbers], 5), True)
+            mixed = source.sample(numbers, len(numbers))
+            self.check(family, (mixed, 1), slow_glued(family, mixed, 1))
 
 
 class ProductTest(unittest.TestCase):

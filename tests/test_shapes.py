@@ -6,54 +6,11 @@ import random
 import unittest
 
 from gluedtables.shapes import is_shown, shape
-from samples import groups_on, keepers, slow_pairs, some_lists, some_trees
+from samples import (
+    groups_on, keepers, knot_of, ring_of, rings_and_knots, slow_knot, slow_pairs, slow_ring, some_lists, some_trees,
+)
 
 BIG = 10 ** 59
-
-
-def inside(groups, marks):
-    """Whether the marks are together in some group."""
-    return any(set(marks) <= set(group) for group in groups)
-
-
-def slow_ring(groups, marks):
-    """Whether marks are a ring, by the words of point 9."""
-    if len(marks) < 4 or len(set(marks)) < len(marks):
-        return False
-    beside = {frozenset(two) for two in zip(marks, marks[1:] + marks[:1])}
-    return all(inside(groups, two) == (frozenset(two) in beside) for two in itertools.combinations(marks, 2))
-
-
-def slow_knot(groups, marks):
-    """Whether marks are a knot, by the words of point 9."""
-    if len(marks) < 3 or len(set(marks)) < len(marks):
-        return False
-    fewer = itertools.combinations(marks, len(marks) - 1)
-    return not inside(groups, marks) and all(inside(groups, some) for some in fewer)
-
-
-def rings_and_knots(groups):
-    """Every ring (each once, begun at its least mark, one way round) and every knot of the groups."""
-    marks = sorted({mark for group in groups for mark in group})
-    found = []
-    for size in range(3, len(marks) + 1):
-        for some in itertools.combinations(marks, size):
-            if slow_knot(groups, list(some)):
-                found.append(("knot", list(some)))
-            for rest in itertools.permutations(some[1:]):
-                if rest[0] < rest[-1] and slow_ring(groups, [some[0], *rest]):
-                    found.append(("ring", [some[0], *rest]))
-    return found
-
-
-def ring_of(marks):
-    """The groups of two marks side by side."""
-    return [tuple(sorted(two)) for two in zip(marks, marks[1:] + marks[:1])]
-
-
-def knot_of(marks):
-    """The groups of all marks but one."""
-    return [tuple(some) for some in itertools.combinations(sorted(marks), len(marks) - 1)]
 
 
 class TreeTest(unittest.TestCase):
