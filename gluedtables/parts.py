@@ -8,7 +8,15 @@ from gluedtables.tables import groups_of, whole
 
 def part(family):
     """The part of a family with its prices, a tuple (numbers, times, prices, scale)."""
-    told = filled(rows_by_all(family), limits_of(family), [1 for row in all_rows(family[0])])
+    return weighed_part(family, [1 for row in all_rows(family[0])])
+
+
+def weighed_part(family, weights):
+    """The part of a family that is worth the most where each row of all marks has a weight, with its prices.
+
+    The prices come to scale times the weight at least on each row, and with the counts to what the part is worth.
+    """
+    told = filled(rows_by_all(family), limits_of(family), weights)
     return (told[0], told[1], by_tables(family, told[2]), told[3])
 
 

@@ -82,11 +82,16 @@ def groups_of(family):
 
 def sums(frame, table, part):
     """The sums of a table on a part of its group, one for each row of the part."""
+    places = [seen(table[0], row, part) for row in rows_of(frame, table[0])]
+    return added_up(frame, part, places, table[1])
+
+
+def added_up(frame, group, places, counts):
+    """For each row of a group the sum of the counts whose place, told for each count, is this row."""
     totals = {}
-    for row in rows_of(frame, part):
+    for row in rows_of(frame, group):
         totals[row] = 0
-    for row, count in zip(rows_of(frame, table[0]), table[1]):
-        place = seen(table[0], row, part)
+    for place, count in zip(places, counts):
         totals[place] = totals[place] + count
     return list(totals.values())
 

@@ -283,3 +283,29 @@ def is_form(family, lists):
 def slow_bet(family, bet):
     """Whether lists of numbers are a bet, by the words of point 15."""
     return is_form(family, bet) and min(slow_rows(family, bet)) >= 0 and slow_worth(family, bet) < 0
+
+
+def some_names(many, source):
+    """So many unlike names of one to eight small letters."""
+    names = []
+    while len(names) < many:
+        name = "".join(source.choice("abcdefghijklmnopqrstuvwxyz") for k in range(source.randint(1, 8)))
+        if name not in names:
+            names.append(name)
+    return names
+
+
+def slow_text(names, family):
+    """The text of a family, by the words of point 22."""
+    frame, tables = family
+    text = "marks"
+    for name, kinds in zip(names, frame):
+        text += " " + name + str(kinds)
+    for group, counts in tables:
+        text += "\ntable"
+        for mark in group:
+            text += " " + names[mark]
+        text += " :"
+        for count in counts:
+            text += " " + str(count)
+    return text

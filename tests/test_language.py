@@ -21,6 +21,12 @@ CALLS = """
     repr any all divmod Exception ValueError TypeError KeyError IndexError LookupError ZeroDivisionError
     ArithmeticError OverflowError RuntimeError NotImplementedError StopIteration
 """.split()
+OWN_METHODS = """
+    append clear copy count endswith extend find get index insert isalnum isalpha isdigit islower isspace isupper items
+    join keys ljust lower lstrip partition pop remove replace reverse rfind rjust rpartition rsplit rstrip setdefault
+    split splitlines startswith strip update upper values zfill bit_length
+""".split()
+KEYWORDS = [("sorted", "key"), ("sorted", "reverse"), ("min", "key"), ("min", "default"), ("max", "key")]
 TAKERS = ["list", "tuple", "dict", "sorted", "sum", "any", "all", "enumerate", "zip"]
 WORDS = re.compile(
     r"\b(type|typing|typing_extensions|enum|Enum|IntEnum|StrEnum|Flag|IntFlag|Generic|Protocol|ABC|ABCMeta"
@@ -162,6 +168,40 @@ class LanguageTest(unittest.TestCase):
                     above = parents[node]
                     called = isinstance(above, ast.Call) and above.func.id in ("sorted", "len")
                     self.assertTrue(called or isinstance(above, (ast.Compare, ast.BinOp)), (name, node.lineno))
+
+    def test_methods_and_values(self):
+        methods, values = [], []
+        for name, text, tree in READ:
+            for node in ast.walk(tree):
+                if isinstance(node, ast.ClassDef):
+                    methods.extend(each.name for each in node.body if isinstance(each, ast.FunctionDef))
+                if isinstance(node, ast.Attribute) and isinstance(node.ctx, ast.Store):
+                    values.append(node.attr)
+        self.assertEqual(set(methods) & set(values), set())
+        for word in values + methods:
+            for kind in (str, int, list, dict, set, bytes):
+                self.assertTrue(word in METHODS or not hasattr(kind, word), word)
+        for name, text, tree in READ:
+            for node in ast.walk(tree):
+                if isinstance(node, ast.Call) and isinstance(node.func, ast.Attribute):
+                    self.assertIn(node.func.attr, OWN_METHODS + methods, (name, node.lineno))
+                if isinstance(node, ast.Call):
+                    for keyword in node.keywords:
+                        self.assertIn((node.func.id, keyword.arg), KEYWORDS, (name, node.lineno))
+
+    def test_is_stands_beside_none_and_truths(self):
+        for name, text, tree in READ:
+            for node in ast.walk(tree):
+                if isinstance(node, ast.Compare) and isinstance(node.ops[0], (ast.Is, ast.IsNot)):
+                    self.assertIn(ast.unparse(node.comparators[0]), ("None", "True", "False"), (name, node.lineno))
+
+    def test_tops_hold_plain_values(self):
+        for name, text, tree in READ:
+            for node in tree.body:
+                if isinstance(node, ast.Assign):
+                    parts = node.value.elts if isinstance(node.value, (ast.Tuple, ast.List)) else [node.value]
+                    for part in parts:
+                        self.assertIsInstance(part, ast.Constant, (name, node.lineno))
 
     def test_names(self):
         for name, text, tree in READ:
